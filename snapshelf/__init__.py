@@ -1,0 +1,1 @@
+"""Snapshelf: files on a small disk, with snapshots and clones."""
