@@ -27,7 +27,7 @@ def is_block(content):
 
 def is_file(content):
     """Whether a content that begins as a file's has as many places as its number of leaves asks for."""
-    return len(content) >= 2 and content[1] <= MOST_LEAVES and len(links(content)) == places_for(content[1])
+    return len(content) >= 2 and content[1] <= MOST_LEAVES and len(links(content)) == level_sizes(content[1])[-1]
 
 
 def is_folder_block(content):
@@ -74,9 +74,37 @@ def height_of(many):
     return height
 
 
-def places_for(many):
-    """How many places a file with so many leaves has itself."""
-    left = many
+def level_sizes(many):
+    """How many leaves there are, then how many branches of each level; the last number is of the file's own places."""
+    sizes = [many]
     for level in range(height_of(many) - 1):
-        left = (left + BUNDLE - 1) // BUNDLE
-    return left
+        sizes.append((sizes[-1] + BUNDLE - 1) // BUNDLE)
+    return sizes
+
+
+def folder_rows(content):
+    """The pairs of a name's code and a place of a folder's block, in order."""
+    return list(zip(content[1::2], content[2::2]))
+
+
+def folder_content(places):
+    """The block of a folder with these places, a dict by the codes of their names."""
+    content = [KINDS.index("folder")]
+    for code in sorted(places):
+        content.extend([code, places[code]])
+    return tuple(content)
+
+
+def file_content(many, places):
+    """The block of a file with so many leaves and these places of its own."""
+    return (KINDS.index("file"), many, *places)
+
+
+def branch_content(places):
+    """The block of a branch with these places."""
+    return (KINDS.index("branch"), *places)
+
+
+def leaf_content(leaf):
+    """The block of a leaf."""
+    return (KINDS.index("leaf"), *leaf)

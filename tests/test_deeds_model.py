@@ -3,12 +3,10 @@
 import random
 import unittest
 
-from helper import EMPTY
+from helper import EMPTY, some_deed
 from snapshelf.deeds import done
 from snapshelf.errors import ShelfError
 from snapshelf.things import is_view, paths_of, thing_at
-
-NAMES = ("a", "b", "c", "z", "aa", "ab", "ba", "zz", "aaa", "h")
 
 
 def below(model, path):
@@ -63,30 +61,6 @@ def change(model, deed):
         if word != "out":
             for rest, leaves in moved.items():
                 model[deed[2] + rest] = None if leaves is None else list(leaves)
-
-
-def some_path(source, model):
-    """A path that is there, one just below such a one, or any."""
-    there = sorted(model)
-    if there and source.random() < 0.8:
-        path = source.choice(there)
-        if source.random() < 0.5 and len(path) < 6:
-            return path + (source.choice(NAMES),)
-        return path
-    return tuple(source.choice(NAMES) for k in range(source.randint(1, 3)))
-
-
-def some_deed(source, model):
-    # Few things go out, so that folders fill up.
-    word = source.choice(("folder", "file", "put", "move", "copy") * 4 + ("trim", "trim", "out"))
-    path = some_path(source, model)
-    if word == "put":
-        return (word, path, source.choice((0, 1, 2, 3, 64)), tuple(source.randrange(256) for k in range(source.randint(0, 3))))
-    if word == "trim":
-        return (word, path, source.randint(0, 4))
-    if word in ("move", "copy"):
-        return (word, path, some_path(source, model))
-    return (word, path)
 
 
 class ModelTest(unittest.TestCase):
