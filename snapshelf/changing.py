@@ -19,6 +19,19 @@ def changed(stock, place, deed):
     return with_edits(stock, place, edits_of(stock, place, deed))
 
 
+def all_changed(stock, place, deeds):
+    """The place of the view behind the deeds of a list, done as one; NoDeed, what they refuse, Full."""
+    # No deed's own refusal may be told ahead of a later NoDeed.
+    if not all(is_deed(deed) for deed in deeds):
+        raise NoDeed()
+    behind = place
+    for deed in deeds:
+        behind = changed(stock, behind, deed)
+        # What only an earlier deed of the list needed leaves its place to the later ones.
+        stock.keep(behind)
+    return behind
+
+
 def outline(stock, place, paths, depths):
     """A thing like the one at the place along the paths, with leaves and things beside them left out.
 

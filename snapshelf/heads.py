@@ -2,7 +2,7 @@
 
 from snapshelf.blocks import is_code
 from snapshelf.names import code_of, name_of
-from snapshelf.plainshelf import MOST_ENTRIES
+from snapshelf.rows import MOST_ENTRIES
 
 ENTRY_KINDS = ("house", "snap")
 MOST_BOUND = 500

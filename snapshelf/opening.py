@@ -18,6 +18,11 @@ def ledger_spot(generation):
     return 2 + generation % 2
 
 
+def place_spot(place):
+    """The spot of a place."""
+    return HEAD_SPOTS - 1 + place
+
+
 def begin(disk, once):
     """Give the disk a first root without entries, and nothing else."""
     for copy in COPIES:

@@ -91,6 +91,23 @@ def thing_of(blocks, place):
     return ("folder", tuple([(name_of(code), thing_of(blocks, link)) for code, link in folder_rows(content)]))
 
 
+def room_at(blocks, place):
+    """The room of the thing at the place; Lost."""
+    return known_room(blocks, place, {})
+
+
+def known_room(blocks, place, known):
+    """The room of the thing at the place; known has those that are known already."""
+    # One place may hang at very many paths, so the thing itself isn't told.
+    if place not in known:
+        content = block_at(blocks, place)
+        if kind_of(content) == "file":
+            known[place] = 1 + content[1]
+        else:
+            known[place] = 1 + sum(known_room(blocks, link, known) for link in links(content))
+    return known[place]
+
+
 def come_to(blocks, places):
     """The places that are come to from these, rising, without those that aren't in the blocks."""
     return sorted(found_by(blocks, places))

@@ -1,6 +1,15 @@
 """Values that several test files use."""
 
+import random
+
+from snapshelf.deeds import done
+from snapshelf.disk import Disk
+from snapshelf.heads import ledger_content, root_content
 from snapshelf.names import code_of
+from snapshelf.opening import begin
+from snapshelf.plainshelf import PlainShelf
+from snapshelf.shelf import Shelf
+from snapshelf.things import paths_of
 from snapshelf.trees import come_to, is_good
 
 EMPTY = ("folder", ())
@@ -145,3 +154,125 @@ def some_shelf(source):
     # Of what is at hand only what isn't too deep is a view.
     good = [place for place in places if is_good(blocks, place, "folder") or is_good(blocks, place, "file")]
     return {place: blocks[place] for place in come_to(blocks, good)}, good
+
+
+def begun(places, once):
+    """A disk of so many places, begun."""
+    disk = Disk(places)
+    begin(disk, once)
+    return disk
+
+
+def written_disk(places, once, blocks, rows, counts):
+    """A disk with these blocks, and with these entries and counts as its generation 2."""
+    disk = Disk(places)
+    for copy in (0, 1):
+        for place in blocks:
+            disk.write(copy, 3 + place, blocks[place])
+        disk.write(copy, 2, ledger_content(2, counts))
+        disk.write(copy, 0, root_content(2, once, rows))
+    return disk
+
+
+def cells(disk):
+    """All cells of the disk, as a list for each copy."""
+    return [[disk.cell(copy, spot) for spot in range(4 + disk.places)] for copy in (0, 1)]
+
+
+def told(shelf):
+    """All entries of a shelf of either kind, with their views."""
+    return [(entry, shelf.view(entry[0])) for entry in shelf.entries()]
+
+
+def all_told(shelf):
+    """All that a shelf on a disk tells of itself, but views."""
+    return (
+        shelf.entries(), shelf.steps(), shelf.generation(), shelf.roots(), shelf.counts(), shelf.blocks(), shelf.once(),
+        shelf.lost(), shelf.free(),
+    )
+
+
+def plain_twin(shelf):
+    """A shelf of views like that one."""
+    other = PlainShelf()
+    other.rows = list(shelf.rows)
+    return other
+
+
+ENTRY_NAMES = tuple(first + second for first in "hsx" for second in "abcdef")
+
+
+def some_deeds(source, view, many):
+    """So many deeds, one behind another; most such lists are done on the view, some are refused."""
+    deeds = []
+    refused = source.random() < 0.1
+    while len(deeds) < many:
+        deed = some_deed(source, paths_of(view))
+        if refusal(done, view, deed) is None:
+            view = done(view, deed)
+            deeds.append(deed)
+        elif refused:
+            deeds.append(deed)
+            refused = False
+    return deeds
+
+
+def some_call(source, shelf):
+    """A deed of 12 on the shelf, done or refused, as the method's name and its arguments."""
+    drops = ("drop",) * (1 if len(shelf.entries()) < 12 else 3)
+    word = source.choice(("house", "house", "snap", "snap", "back", "clone", "rebound") + drops + ("do",) * 12)
+    houses = [entry[0] for entry in shelf.entries() if entry[1] == "house"]
+    snaps = [entry[0] for entry in shelf.entries() if entry[1] == "snap"]
+    some = source.choice(ENTRY_NAMES)
+    house = source.choice(houses) if houses and source.random() < 0.95 else some
+    snap = source.choice(snaps) if snaps and source.random() < 0.95 else some
+    bound = source.choice((1, 4, 30, 500, 500, 500, 500))
+    if word == "do":
+        deeds = some_deeds(source, shelf.view(house) if house in houses else EMPTY, source.choice((0, 1, 1, 2, 4, 8)))
+        if source.random() < 0.03:
+            deeds.append(source.choice(WHATEVER))
+        return (word, house, deeds)
+    others = {
+        "house": (some, bound), "snap": (house, some), "back": (house, snap), "clone": (snap, some, bound),
+        "drop": (source.choice((some, house, snap)),), "rebound": (house, bound),
+    }
+    return (word,) + others[word]
+
+
+def ask(shelf, call):
+    """Ask the shelf so; how it is refused, or None."""
+    return refusal(getattr(shelf, call[0]), *call[1:])
+
+
+def both_asked(shelf, plain, call):
+    """Ask both shelves the same, the plain one only where the other isn't Full; both answers."""
+    answer = ask(shelf, call)
+    return answer, ask(plain_twin(plain) if answer == "Full" else plain, call)
+
+
+def long_row(seed, places, many):
+    """A source of chance, and a shelf on a disk and a shelf of views behind so many of the same calls."""
+    source = random.Random(seed)
+    shelf, plain = Shelf(begun(places, seed % 2 == 0)), PlainShelf()
+    for number in range(many):
+        both_asked(shelf, plain, some_call(source, plain))
+    return source, shelf, plain
+
+
+def shelf_with(disk, *calls):
+    """A shelf on the disk behind these deeds."""
+    shelf = Shelf(disk)
+    for call in calls:
+        getattr(shelf, call[0])(*call[1:])
+    return shelf
+
+
+def file_deeds(path, many, number=0):
+    """The deeds that make a file of so many leaves, no two alike."""
+    return [("file", path)] + [("put", path, at, (at, number)) for at in range(many)]
+
+
+def spoil(disk, place):
+    """Let both copies of the place rot."""
+    disk.rot(0, 3 + place, None)
+    disk.rot(1, 3 + place, None)

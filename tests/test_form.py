@@ -14,7 +14,7 @@ BARRED = (
 NO_NAMES = ("register", "mro", "elements", "open", "input", "version_info", "with_traceback", "add_note", "format", "args")
 BUILTINS = (
     "len range enumerate zip min max sum abs sorted reversed int str bool bytes list tuple dict set frozenset isinstance ord "
-    "repr any all divmod iter next Exception ValueError TypeError KeyError IndexError LookupError ZeroDivisionError "
+    "repr any all divmod iter next super Exception ValueError TypeError KeyError IndexError LookupError ZeroDivisionError "
     "ArithmeticError OverflowError RuntimeError NotImplementedError AttributeError StopIteration NotImplemented"
 ).split()
 
