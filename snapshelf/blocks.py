@@ -87,6 +87,11 @@ def folder_rows(content):
     return list(zip(content[1::2], content[2::2]))
 
 
+def named_places(content):
+    """The places of a folder's block by the names of its things, in order."""
+    return {name_of(code): place for code, place in folder_rows(content)}
+
+
 def folder_content(places):
     """The block of a folder with these places, a dict by the codes of their names."""
     content = [KINDS.index("folder")]

@@ -1,10 +1,10 @@
 """Deeds done by a stock on the view at a place."""
 
-from snapshelf.blocks import file_content, folder_content, folder_rows, kind_of, leaf_content, links
+from snapshelf.blocks import file_content, folder_content, folder_rows, kind_of, leaf_content, links, named_places
 from snapshelf.deeds import done, is_deed
 from snapshelf.errors import NoDeed
 from snapshelf.making import bundled, kept_place, made
-from snapshelf.names import code_of, name_of
+from snapshelf.names import code_of
 from snapshelf.things import EMPTY_VIEW
 from snapshelf.trees import file_levels
 
@@ -41,8 +41,7 @@ def outline(stock, place, paths, depths):
     if kind_of(content) == "file":
         return ("file", ((),) * content[1])
     rows = []
-    for code, link in folder_rows(content):
-        name = name_of(code)
+    for name, link in named_places(content).items():
         inner = [path[1:] for path in paths if path[:1] == (name,)]
         if inner:
             rows.append((name, outline(stock, link, inner, depths)))
@@ -90,7 +89,7 @@ def place_at(stock, place, path):
     """The place of the thing at a path that is there."""
     there = place
     for name in path:
-        there = dict(folder_rows(stock.content(there)))[code_of(name)]
+        there = named_places(stock.content(there))[name]
     return there
 
 

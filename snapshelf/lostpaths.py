@@ -1,7 +1,6 @@
 """The paths of a shelf that can't be read."""
 
-from snapshelf.blocks import folder_rows, kind_of, links
-from snapshelf.names import name_of
+from snapshelf.blocks import kind_of, links, named_places
 
 
 def lost_paths(shelf):
@@ -21,8 +20,8 @@ def lost_below(blocks, place, path, whole):
     if place not in blocks or kind_of(blocks[place]) != "folder":
         return [path]
     paths = []
-    for code, link in folder_rows(blocks[place]):
-        paths.extend(lost_below(blocks, link, (*path, name_of(code)), whole))
+    for name, link in named_places(blocks[place]).items():
+        paths.extend(lost_below(blocks, link, (*path, name), whole))
     return paths
 
 

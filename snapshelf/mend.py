@@ -15,7 +15,9 @@ def spots_in_use(disk):
     }
     blocks, lost = reached(disk, [row[2] for row in rows])
     for place in blocks:
-        contents[place_spot(place)] = blocks[place]
+        spot = place_spot(place)
+        # A right first copy that is no block is what read tells, and so what the spot is mended with.
+        contents[spot] = blocks[place] if disk.read(spot) == blocks[place] else None
     for place in lost:
         contents[place_spot(place)] = None
     return [(spot, contents[spot]) for spot in sorted(contents)]

@@ -1,19 +1,17 @@
 """The blocks on a disk, as far as they can be read."""
 
 from snapshelf.blocks import is_block, links
-from snapshelf.errors import Lost
-from snapshelf.opening import place_spot
+from snapshelf.opening import COPIES, place_spot
 
 
 def block_on(disk, place):
-    """The block at the place of the disk, or None where none can be read."""
-    try:
-        content = disk.read(place_spot(place))
-    except Lost:
-        return None
-    if not is_block(content) or any(link > disk.places for link in links(content)):
-        return None
-    return content
+    """The block at the place of the disk, or None where it can't be read in either copy."""
+    for copy in COPIES:
+        content = disk.look(copy, place_spot(place))
+        # What is no block can't be read, though its sum be right; look tells None of a wrong one.
+        if is_block(content) and all(link <= disk.places for link in links(content)):
+            return content
+    return None
 
 
 def reached(disk, places):

@@ -1,11 +1,10 @@
 """A shelf on a disk: entries on blocks, with deeds that write new blocks and switch the root at last."""
 
-from snapshelf.blocks import folder_rows, kind_of
+from snapshelf.blocks import kind_of, named_places
 from snapshelf.changing import all_changed
 from snapshelf.counts import counts_of
 from snapshelf.errors import Full, Lost, NoRoom, NoThing
 from snapshelf.making import made
-from snapshelf.names import name_of
 from snapshelf.opening import newest
 from snapshelf.reading import reached
 from snapshelf.room import frees
@@ -182,7 +181,7 @@ class Shelf:
             content = block_at(self.memory, place)
             if kind_of(content) != "folder":
                 return None
-            inner = {name_of(code): link for code, link in folder_rows(content)}
+            inner = named_places(content)
             if name not in inner:
                 return None
             place = inner[name]

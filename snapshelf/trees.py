@@ -1,8 +1,8 @@
 """Blocks in memory: which places are good, what stands at them, and what is come to from them."""
 
-from snapshelf.blocks import BUNDLE, folder_rows, height_of, is_block, kind_of, level_sizes, links
+from snapshelf.blocks import BUNDLE, height_of, is_block, kind_of, level_sizes, links, named_places
 from snapshelf.errors import Lost
-from snapshelf.names import LONGEST_PATH, name_of
+from snapshelf.names import LONGEST_PATH
 
 
 def is_good(blocks, place, kind):
@@ -88,7 +88,7 @@ def thing_of(blocks, place):
     content = block_at(blocks, place)
     if kind_of(content) == "file":
         return ("file", tuple([block_at(blocks, leaf)[1:] for leaf in leaf_places(blocks, place)]))
-    return ("folder", tuple([(name_of(code), thing_of(blocks, link)) for code, link in folder_rows(content)]))
+    return ("folder", tuple([(name, thing_of(blocks, link)) for name, link in named_places(content).items()]))
 
 
 def room_at(blocks, place):

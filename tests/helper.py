@@ -202,10 +202,9 @@ def plain_twin(shelf):
 ENTRY_NAMES = tuple(first + second for first in "hsx" for second in "abcdef")
 
 
-def some_deeds(source, view, many):
-    """So many deeds, one behind another; most such lists are done on the view, some are refused."""
+def some_deeds(source, view, many, refused=False):
+    """So many deeds that are done on the view one behind another, or with one among them that is refused."""
     deeds = []
-    refused = source.random() < 0.1
     while len(deeds) < many:
         deed = some_deed(source, paths_of(view))
         if refusal(done, view, deed) is None:
@@ -228,7 +227,8 @@ def some_call(source, shelf):
     snap = source.choice(snaps) if snaps and source.random() < 0.95 else some
     bound = source.choice((1, 4, 30, 500, 500, 500, 500))
     if word == "do":
-        deeds = some_deeds(source, shelf.view(house) if house in houses else EMPTY, source.choice((0, 1, 1, 2, 4, 8)))
+        view = shelf.view(house) if house in houses else EMPTY
+        deeds = some_deeds(source, view, source.choice((0, 1, 1, 2, 4, 8)), source.random() < 0.1)
         if source.random() < 0.03:
             deeds.append(source.choice(WHATEVER))
         return (word, house, deeds)

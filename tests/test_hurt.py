@@ -49,12 +49,14 @@ class HurtTest(unittest.TestCase):
         place = place_of(shelf, "h", "c")
         spot = 3 + place
         for content in ((), (7,), (0, 256), (1,), (2, 1), (2, 65, 1), (3, 0, 5), (3, 2, 5, 1, 6), (2, 1, 61), (1, 61), (3, 1, 61)):
-            for second in (content, None):
+            for copy in (0, 1):
                 disk = shelf.disk.twin()
-                disk.write(0, spot, content)
-                disk.rot(1, spot, None)
-                if second is not None:
-                    disk.write(1, spot, second)
+                disk.write(copy, spot, content)
+                self.assertEqual(Shelf(disk).lost(), [], content)
+                self.assertEqual(told(Shelf(disk)), told(shelf))
+                disk.rot(1 - copy, spot, None)
+                self.assertEqual(Shelf(disk).lost(), [place], content)
+                disk.write(1 - copy, spot, content)
                 self.assertEqual(Shelf(disk).lost(), [place], content)
         right = shelf.disk.cell(0, spot)
         for cell in (None, 5, "text", (), (right[0] + 1, right[1]), (right[0], list(right[1])), (True, right[1]), right[:1]):

@@ -157,7 +157,8 @@ class MendTest(unittest.TestCase):
     def test_right_with_what_is_no_block(self):
         shelf = sample()
         block = due_spots(shelf)[5][0]
-        for first, second, fate in (((9,), (9,), 0), (None, (9,), 1), ((9,), None, 2), ((9,), (8,), 2)):
+        whole = shelf.disk.look(1, block)
+        for first, second, fate in (((9,), (9,), 0), (None, (9,), 1), ((9,), None, 2), ((9,), (8,), 2), ((9,), whole, 2)):
             disk = shelf.disk.twin()
             for copy, content in enumerate((first, second)):
                 disk.rot(copy, block, None)
@@ -294,7 +295,7 @@ class MendCheckTest(unittest.TestCase):
                     self.assertEqual(self.holds(behind=self.bent(self.behind, copy, spot, other)), repr(cell) == repr(other))
 
     def test_another_kind_of_row_within_a_cell(self):
-        for number, cell in ((2, [1, 0]), (3, (0, (1, (0,)))), (3, (0, [1, [0]])), (5, ([("a", 1)],)), (5, ({"b": 1},)), (5, ({},))):
+        for number, cell in ((2, [1, 0]), (3, (0, (1, (0,)))), (3, (0, [1, [0]])), (5, ([("a", 1)],)), (5, ({"b": 1},)), (5, ({},)), (5, ({"a": 1, "b": 1},))):
             self.assertFalse(self.holds(behind=self.bent(self.behind, 0, self.free[number], cell)), cell)
         spot, fate = self.paper[0]
         cell = self.behind[0][spot]

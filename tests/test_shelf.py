@@ -36,7 +36,8 @@ class LongRowsTest(unittest.TestCase):
 
     def check_things(self, source, shelf, plain):
         for entry, view in told(plain):
-            for path in paths_of(view)[:5] + [(), ("q",), ("a", "q"), ("a", "a", "a", "a", "a", "a")]:
+            for path in paths_of(view) + [(), ("q",), ("a", "q"), ("a", "a", "a", "a", "a", "a")]:
+                self.assertEqual(shelf.thing(entry[0], (path + ("a",))[:6]), thing_at(view, (path + ("a",))[:6]))
                 self.assertEqual(shelf.thing(entry[0], path), thing_at(view, path))
 
     def run_row(self, seed, places, once, anew):
@@ -157,6 +158,14 @@ class RefusalsTest(unittest.TestCase):
         self.refused(shelf, "NoRoom", "do", "h", [("put", ("a",), 1, (2,)), ("folder", ("b",)), ("file", ("c",))])
         self.refused(shelf, "Full", "do", "h", [("put", ("a",), 1, (2,)), ("folder", ("b",))])
 
+    def test_what_the_last_deed_of_a_long_list_refuses_is_told_ahead_of_full(self):
+        for once in (True, False):
+            shelf = shelf_with(begun(20, once), ("house", "h", 500))
+            deeds = [deed for name in "abc" for deed in file_deeds((name,), 64, ord(name))]
+            self.refused(shelf, "Full", "do", "h", deeds)
+            self.refused(shelf, "NoThing", "do", "h", deeds + [("out", ("q",))])
+            self.refused(shelf, "NoRoom", "do", "h", deeds + [("copy", ("a",), (name,)) for name in "defgh"])
+
     def test_a_list_is_refused_as_a_whole(self):
         shelf = shelf_with(begun(50, True), ("house", "h", 5))
         self.refused(shelf, "Taken", "do", "h", [("folder", ("a",)), ("folder", ("a",))])
@@ -188,7 +197,9 @@ class RefusalsTest(unittest.TestCase):
         self.refused(shelf, "NoEntry", "view", "x")
         self.refused(shelf, "NoEntry", "thing", "x", ())
         self.refused(shelf, "NoEntry", "alone", "x")
-        self.assertIsNone(shelf.thing("h", ("a", "b")))
+        for name in "abc":
+            self.assertIsNone(shelf.thing("h", ("a", name)))
+            self.assertIsNone(shelf.thing("h", ("a", name, name)))
         self.assertIsNone(shelf.thing("h", ("b",)))
         self.assertEqual(shelf.thing("h", ()), shelf.view("h"))
         self.assertEqual(shelf.thing("h", ("a",)), file((1,)))
