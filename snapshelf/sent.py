@@ -54,7 +54,8 @@ def read_deed(text):
     words = text.split(" ")
     if len(words) < 2:
         raise NoSent()
-    deed = (words[0], path_of_word(words[1]), *rest_of_deed(words[0], words[2:]))
+    rest = rest_of_deed(words[0], words[2:])
+    deed = (words[0], path_of_word(words[1]), *rest)
     if not is_deed(deed):
         raise NoSent()
     return deed
